@@ -1,0 +1,154 @@
+"""The asker of a whole conversation (point 10)."""
+
+from layerask.answering import rounds_of
+from layerask.circuits import checked, checked_rows, copied, depth, modulus, row_bits, rows_table, width
+from layerask.counts import first_throws, plan
+from layerask.cubes import value_at
+from layerask.errors import CircuitError, TalkError
+from layerask.field import are_numbers, is_number
+from layerask.turns import Turn
+
+
+def check_talk_modulus(circuit):
+    """Raises CircuitError if the modulus is too small for a conversation."""
+    widths = [width(circuit, layer) for layer in range(1, depth(circuit) + 1)]
+    if modulus(circuit) <= max(3, max(widths)):
+        raise CircuitError("modulus")
+
+
+def check_outputs(circuit, rows, outputs):
+    """Raises CircuitError if the claimed outputs do not fit the circuit and the rows."""
+    if not isinstance(outputs, list) or len(outputs) != len(rows):
+        raise CircuitError("outputs")
+    for row in outputs:
+        if not are_numbers(row, 1 << width(circuit, 0), modulus(circuit)):
+            raise CircuitError("outputs")
+
+
+class Asker:
+    """The asker of the claim that a circuit has certain outputs."""
+
+    def __init__(self, circuit, rows, outputs):
+        checked(circuit)
+        check_talk_modulus(circuit)
+        checked_rows(circuit, rows)
+        check_outputs(circuit, rows, outputs)
+        self.result = None
+        self.work = 0
+        self._circuit = copied(circuit)
+        self._p = modulus(circuit)
+        self._dims = row_bits(rows)
+        self._inputs = rows_table(rows)
+        self._outputs = rows_table(outputs)
+        self._point = []
+        self._turn = None
+        self._at = 0
+        self._due = "throw"
+        self._look_at_outputs()
+
+    def wants(self):
+        """What comes next: "throw", "polynomial", "line" or "nothing"."""
+        return self._due
+
+    def throw(self, number):
+        """Takes a throw."""
+        if self._due != "throw" or not is_number(number, self._p):
+            raise TalkError("throw")
+        if self._turn is None:
+            self._point.append(number)
+            self._look_at_outputs()
+        elif self._turn.sums.is_done():
+            self._turn.throw_line(number)
+            self._at += 1
+            self._take_claim(self._turn.next_point, self._turn.next_claim)
+        else:
+            self._turn.sums.throw(number)
+            self._due = self._due_answer()
+
+    def answer(self, values):
+        """Takes an answer; tells whether it fits."""
+        if self._due == "polynomial":
+            return self._take_polynomial(values)
+        if self._due == "line":
+            return self._take_line(values)
+        raise TalkError("answer")
+
+    def _look_at_outputs(self):
+        """Makes the first claim as soon as its point is thrown."""
+        if len(self._point) == first_throws(self._circuit, self._dims):
+            self.work += len(self._outputs)
+            self._take_claim(self._point, value_at(self._outputs, self._point, self._p))
+
+    def _take_claim(self, point, claim):
+        """Begins to ask about the next layer, or compares the claim with the inputs."""
+        if self._at < depth(self._circuit):
+            self._turn = Turn(self._circuit, self._at, self._dims, point, claim)
+            self._due = self._due_answer()
+            return
+        self.work += len(self._inputs)
+        if value_at(self._inputs, point, self._p) == claim:
+            self._end(("believed",))
+        else:
+            self._end(("refused", self._at, "inputs"))
+
+    def _due_answer(self):
+        """The answer that comes next in a layer."""
+        return "line" if self._turn.sums.is_done() else "polynomial"
+
+    def _take_polynomial(self, values):
+        sums = self._turn.sums
+        if not sums.accept(values):
+            self._end(("refused", self._at, len(sums.throws)))
+            return False
+        self.work += len(values)
+        self._due = "throw"
+        return True
+
+    def _take_line(self, values):
+        if not self._turn.accept_line(values):
+            self._end(("refused", self._at, "end"))
+            return False
+        # The columns count because the weights were calculated for the line.
+        self.work += len(values) + (1 << width(self._circuit, self._at))
+        self._due = "throw"
+        return True
+
+    def _end(self, result):
+        """Ends the conversation."""
+        self.result = result
+        self._due = "nothing"
+
+
+def has_answers(pair, rounds):
+    """Whether a pair of answers to a layer has as many polynomials as the layer has rounds."""
+    if not isinstance(pair, tuple) or len(pair) != 2:
+        return False
+    return isinstance(pair[0], list) and len(pair[0]) == rounds
+
+
+def check_talk(circuit, dims, throws, answers):
+    """Raises TalkError if there are not as many throws or answers as a conversation has."""
+    if len(throws) != first_throws(circuit, dims) + len(plan(circuit, dims)):
+        raise TalkError("throws")
+    if len(answers) != depth(circuit):
+        raise TalkError("answers")
+    for layer, pair in enumerate(answers):
+        if not has_answers(pair, rounds_of(circuit, dims, layer)):
+            raise TalkError("answers")
+
+
+def judge(circuit, rows, outputs, throws, answers):
+    """The result of a whole conversation."""
+    asker = Asker(circuit, rows, outputs)
+    check_talk(circuit, row_bits(rows), throws, answers)
+    told = [values for polys, line in answers for values in polys + [line]]
+    thrown = 0
+    answered = 0
+    while asker.result is None:
+        if asker.wants() == "throw":
+            asker.throw(throws[thrown])
+            thrown += 1
+        else:
+            asker.answer(told[answered])
+            answered += 1
+    return asker.result

@@ -1,0 +1,44 @@
+"""What a conversation takes, told before it (point 11)."""
+
+from layerask.circuits import depth, modulus, width
+
+
+def first_throws(circuit, dims):
+    """The number of the throws for the first point."""
+    return dims + width(circuit, 0)
+
+
+def plan(circuit, dims):
+    """The degrees of all answers of a conversation, in their order."""
+    degrees = []
+    for layer in range(depth(circuit)):
+        bits = width(circuit, layer + 1)
+        degrees = degrees + [3] * dims + [2] * (2 * bits) + [bits]
+    return degrees
+
+
+def throws(circuit, dims):
+    """The number of the throws."""
+    return first_throws(circuit, dims) + len(plan(circuit, dims))
+
+
+def share(circuit, dims):
+    """The told share times p."""
+    return first_throws(circuit, dims) + sum(plan(circuit, dims))
+
+
+def most_believed(circuit, dims):
+    """The most rows of throws with which a false claim is believed, as far as is told."""
+    p = modulus(circuit)
+    most = min(p, share(circuit, dims))
+    for _ in range(throws(circuit, dims) - 1):
+        most = most * p
+    return most
+
+
+def told_work(circuit, dims):
+    """The asker's work in a conversation that is believed."""
+    last = depth(circuit)
+    tables = (1 << (dims + width(circuit, 0))) + (1 << (dims + width(circuit, last)))
+    answered = sum(degree + 1 for degree in plan(circuit, dims))
+    return tables + answered + sum(1 << width(circuit, layer) for layer in range(last))

@@ -1,0 +1,79 @@
+"""The interface: every name is defined in its own file, with the arguments that the document lists."""
+
+import ast
+import importlib
+import os
+import unittest
+
+FOLDER = os.path.join(os.path.dirname(os.path.dirname(os.path.abspath(__file__))), "layerask")
+
+FUNCTIONS = {
+    "field": ("is_prime(number)", "check_modulus(p)", "power(base, exponent, p)", "inverse(number, p)",
+              "is_number(number, p)"),
+    "polys": ("value(values, t, p)", "corners(values, p)", "same(values, others, p)", "common(values, others, p)",
+              "degree(values, p)"),
+    "cubes": ("value_at(table, point, p)", "point_table(point, p)", "nearness(point, other, p)",
+              "fold(table, number, p)", "between(point, other, t, p)", "line_values(table, point, other, p)"),
+    "sums": ("total(terms, p)", "fold_terms(terms, number, p)", "honest(terms, degree, p)"),
+    "circuits": ("checked(circuit)", "checked_rows(circuit, rows)", "modulus(circuit)", "depth(circuit)",
+                 "width(circuit, layer)", "row_bits(rows)", "run_row(circuit, inputs)", "run(circuit, rows)",
+                 "input_table(circuit, rows)", "output_rows(circuit, table, bits)"),
+    "wiring": ("weights(gates, g, x, y, p)", "weights_by(gates, near_g, near_x, near_y, p)"),
+    "turns": (),
+    "answering": ("answers(answerer, throws)", "rounds_of(circuit, bits, layer)"),
+    "asking": ("judge(circuit, rows, outputs, throws, answers)",),
+    "blame": ("blame(circuit, rows, outputs, throws, answers)",),
+    "counts": ("plan(circuit, dims)", "throws(circuit, dims)", "share(circuit, dims)",
+               "most_believed(circuit, dims)", "told_work(circuit, dims)"),
+    "errors": (),
+}
+
+CLASSES = {
+    ("errors", "LayeraskError"): (), ("errors", "FieldError"): (), ("errors", "CircuitError"): (),
+    ("errors", "TalkError"): (), ("errors", "TextError"): (), ("errors", "ProgramError"): (),
+    ("errors", "SizeError"): (), ("errors", "CommandError"): (),
+    ("sums", "SumAsker"): ("__init__(self, p, claim, degrees)", "accept(self, values)", "throw(self, number)",
+                           "is_done(self)"),
+    ("turns", "Turn"): ("__init__(self, circuit, layer, dims, point, claim)", "accept_line(self, values)",
+                        "throw_line(self, number)"),
+    ("answering", "Answerer"): ("__init__(self, circuit, rows)", "outputs(self)", "begin(self, layer, point)",
+                                "poly(self)", "throw(self, number)", "line(self)"),
+    ("asking", "Asker"): ("__init__(self, circuit, rows, outputs)", "wants(self)", "throw(self, number)",
+                          "answer(self, values)"),
+}
+
+
+def body_of(module):
+    with open(os.path.join(FOLDER, module + ".py"), encoding="ascii") as held:
+        return ast.parse(held.read()).body
+
+
+def written(function):
+    """A function's name and arguments, as the document writes them."""
+    return f"{function.name}({ast.unparse(function.args)})"
+
+
+class InterfaceTest(unittest.TestCase):
+    def test_functions(self):
+        for module, expected in FUNCTIONS.items():
+            found = [written(part) for part in body_of(module) if isinstance(part, ast.FunctionDef)]
+            for signature in expected:
+                self.assertIn(signature, found)
+
+    def test_classes(self):
+        for (module, name), expected in CLASSES.items():
+            parts = [part for part in body_of(module) if isinstance(part, ast.ClassDef) and part.name == name]
+            self.assertEqual(len(parts), 1, name)
+            found = [written(part) for part in parts[0].body if isinstance(part, ast.FunctionDef)]
+            for signature in expected:
+                self.assertIn(signature, found)
+
+    def test_they_are_imported_by_their_modules(self):
+        for module in FUNCTIONS:
+            held = importlib.import_module("layerask." + module)
+            for signature in FUNCTIONS[module]:
+                self.assertEqual(getattr(held, signature.split("(")[0]).__module__, "layerask." + module)
+
+
+if __name__ == "__main__":
+    unittest.main()

@@ -1,0 +1,198 @@
+"""Those rules of the Python subset that a look at the syntax tree can tell."""
+
+import ast
+import builtins
+import os
+import re
+import unittest
+
+FOLDER = os.path.join(os.path.dirname(os.path.dirname(os.path.abspath(__file__))), "layerask")
+
+BUILTINS = set("""len range enumerate zip min max sum abs sorted reversed int str bool list tuple dict set isinstance ord
+repr any all divmod pow Exception ValueError TypeError KeyError IndexError LookupError ZeroDivisionError ArithmeticError
+OverflowError RuntimeError NotImplementedError StopIteration super""".split())
+
+# The name "_" stands there, too, as soon as an example has run.
+NAMES = set(dir(builtins)) - {"_"}
+
+METHODS = set("""append clear copy count endswith extend find get index insert isalnum isalpha isdigit islower isspace
+isupper items join keys ljust lower lstrip partition pop remove replace reverse rfind rjust rpartition rsplit rstrip
+setdefault split splitlines startswith strip update upper values zfill bit_length""".split())
+
+BARRED = re.compile(r"\b(typing|typing_extensions|enum|Enum|IntEnum|StrEnum|Flag|IntFlag|Generic|Protocol|ABC|ABCMeta|"
+                    r"namedtuple|NamedTuple|TypedDict|TYPE_CHECKING|abstractmethod|register|mro|elements|open|input|law|"
+                    r"version_info|with_traceback|add_note|_wall|_WallAttr|global|async|await|eval|exec|print)\b")
+
+
+def files():
+    return sorted(name for name in os.listdir(FOLDER) if name != "__pycache__")
+
+
+def texts():
+    for name in files():
+        with open(os.path.join(FOLDER, name), encoding="ascii", newline="") as held:
+            yield name, held.read()
+
+
+def trees():
+    for name, text in texts():
+        yield name, ast.parse(text)
+
+
+def functions(tree):
+    return [node for node in ast.walk(tree) if isinstance(node, ast.FunctionDef)]
+
+
+def own_names(tree):
+    """The names that a file binds at module level by itself."""
+    found = []
+    for part in tree.body:
+        if isinstance(part, (ast.FunctionDef, ast.ClassDef)):
+            found.append(part.name)
+        if isinstance(part, ast.Assign):
+            found += [target.id for target in part.targets]
+    return found
+
+
+def imports(tree):
+    return [part for part in tree.body if isinstance(part, ast.ImportFrom)]
+
+
+def local_names(function):
+    """The parameters and all other names that a function assigns."""
+    arguments = function.args
+    found = {argument.arg for argument in arguments.args + arguments.kwonlyargs + arguments.posonlyargs}
+    for node in ast.walk(function):
+        if isinstance(node, ast.Name) and isinstance(node.ctx, ast.Store):
+            found.add(node.id)
+    return found
+
+
+class FilesTest(unittest.TestCase):
+    def test_names(self):
+        for name in files():
+            self.assertRegex(name, r"\A[a-z0-9_]+\.py\Z")
+            self.assertFalse(name != "__init__.py" and name[:-3] in NAMES, name)
+
+    def test_characters_and_sizes(self):
+        for name, text in texts():
+            self.assertFalse([char for char in text if char != "\n" and not " " <= char <= "~"], name)
+            lines = text.split("\n")
+            self.assertLessEqual(len(lines), 400, name)
+            self.assertLessEqual(max(len(line) for line in lines), 120, name)
+            for function in functions(ast.parse(text)):
+                self.assertLessEqual(function.end_lineno - function.lineno + 1, 40, (name, function.name))
+
+
+class ModulesTest(unittest.TestCase):
+    def test_module_level(self):
+        for name, tree in trees():
+            seen_other = False
+            for part in tree.body:
+                docstring = isinstance(part, ast.Expr) and isinstance(part.value, ast.Constant)
+                self.assertTrue(docstring or isinstance(part, (ast.ImportFrom, ast.FunctionDef, ast.ClassDef, ast.Assign)))
+                self.assertFalse(isinstance(part, ast.ImportFrom) and seen_other, name)
+                seen_other = seen_other or not (docstring or isinstance(part, ast.ImportFrom))
+
+    def test_imports(self):
+        defined = {"layerask." + name[:-3]: own_names(tree) for name, tree in trees()}
+        for name, tree in trees():
+            for part in ast.walk(tree):
+                self.assertNotIsInstance(part, ast.Import, name)
+            for part in imports(tree):
+                self.assertEqual(part.level, 0, name)
+                for alias in part.names:
+                    self.assertIsNone(alias.asname, name)
+                    self.assertIn(alias.name, defined[part.module], name)
+
+    def test_no_circle(self):
+        needs = {name[:-3]: {part.module.split(".")[1] for part in imports(tree)} for name, tree in trees()}
+        while needs:
+            free = [name for name, others in needs.items() if not others & set(needs)]
+            self.assertTrue(free, needs)
+            for name in free:
+                del needs[name]
+
+    def test_one_binding(self):
+        for name, tree in trees():
+            bound = own_names(tree) + [alias.name for part in imports(tree) for alias in part.names]
+            self.assertEqual(len(bound), len(set(bound)), name)
+            self.assertFalse(set(bound) & NAMES, name)
+
+
+class NamesTest(unittest.TestCase):
+    def test_local_names(self):
+        for name, tree in trees():
+            taken = {alias.name for part in imports(tree) for alias in part.names}
+            taken |= {part.name for part in tree.body if isinstance(part, ast.ClassDef)}
+            for function in functions(tree):
+                found = local_names(function)
+                self.assertFalse(found & taken, (name, function.name))
+                self.assertFalse(found & NAMES, (name, function.name))
+
+    def test_barred_words(self):
+        for name, tree in trees():
+            for node in ast.walk(tree):
+                for word in (getattr(node, "id", ""), getattr(node, "attr", ""), getattr(node, "arg", ""),
+                             getattr(node, "name", "")):
+                    self.assertFalse(isinstance(word, str) and BARRED.search(word), (name, word))
+                    self.assertNotEqual(word, "type")
+
+    def test_builtins(self):
+        for name, tree in trees():
+            for node in ast.walk(tree):
+                if isinstance(node, ast.Name) and node.id in NAMES:
+                    self.assertIn(node.id, BUILTINS, name)
+
+    def test_methods_and_attributes(self):
+        for name, tree in trees():
+            for kind in [part for part in tree.body if isinstance(part, ast.ClassDef)]:
+                methods = [part.name for part in kind.body if isinstance(part, ast.FunctionDef)]
+                self.assertEqual(len(methods), len(set(methods)))
+                stored = {node.attr for node in ast.walk(kind)
+                          if isinstance(node, ast.Attribute) and isinstance(node.ctx, ast.Store)}
+                self.assertFalse(stored & set(methods), (name, kind.name))
+
+    def test_methods_that_are_called(self):
+        own = {function.name for _, tree in trees() for function in functions(tree)}
+        for name, tree in trees():
+            for node in ast.walk(tree):
+                if isinstance(node, ast.Call) and isinstance(node.func, ast.Attribute):
+                    self.assertIn(node.func.attr, own | METHODS, name)
+
+
+class SyntaxTest(unittest.TestCase):
+    def test_what_does_not_stand(self):
+        barred = (ast.Global, ast.AsyncFunctionDef, ast.AsyncFor, ast.AsyncWith, ast.Await, ast.Div, ast.MatMult,
+                  ast.AnnAssign)
+        for name, tree in trees():
+            for node in ast.walk(tree):
+                self.assertNotIsInstance(node, barred, name)
+                if isinstance(node, ast.Constant):
+                    self.assertNotIsInstance(node.value, (float, complex), name)
+                    self.assertFalse(isinstance(node.value, str) and "%" in node.value, name)
+                if isinstance(node, ast.BinOp) and isinstance(node.op, ast.Pow):
+                    self.assertIsInstance(node.right, ast.Constant, name)
+                if isinstance(node, (ast.FunctionDef, ast.ClassDef)):
+                    self.assertEqual(node.decorator_list, [], name)
+                if isinstance(node, ast.Raise) and node.exc is not None:
+                    self.assertIsInstance(node.exc, ast.Call, name)
+                    self.assertIsInstance(node.exc.func, ast.Name, name)
+
+    def test_is(self):
+        for name, tree in trees():
+            for node in ast.walk(tree):
+                if isinstance(node, ast.Compare) and any(isinstance(sign, (ast.Is, ast.IsNot)) for sign in node.ops):
+                    other = node.comparators[0]
+                    self.assertTrue(isinstance(other, ast.Constant) and other.value in (None, True, False), name)
+
+    def test_views_are_iterated_at_once(self):
+        for name, tree in trees():
+            for node in ast.walk(tree):
+                if isinstance(node, (ast.Return, ast.Assign)) and isinstance(node.value, ast.Call):
+                    called = node.value.func
+                    self.assertNotIn(getattr(called, "id", ""), ("zip", "range", "enumerate", "reversed"), name)
+
+
+if __name__ == "__main__":
+    unittest.main()
