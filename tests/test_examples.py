@@ -5,7 +5,8 @@ import os
 import unittest
 
 PLACE = os.path.join(os.path.dirname(os.path.abspath(__file__)), "examples.txt")
-MODULES = ("field", "polys", "cubes", "sums", "circuits", "wiring", "answering", "counts")
+MODULES = ("field", "polys", "cubes", "sums", "circuits", "wiring", "answering", "counts", "bluffing", "talks", "parsing",
+           "sizes")
 
 
 class ExamplesTest(unittest.TestCase):

@@ -26,6 +26,12 @@ FUNCTIONS = {
     "counts": ("plan(circuit, dims)", "throws(circuit, dims)", "share(circuit, dims)",
                "most_believed(circuit, dims)", "told_work(circuit, dims)"),
     "errors": (),
+    "bluffing": ("hopeful(lack, guesses, degree, p)",),
+    "talks": ("write_talk(throws, answers)", "read_talk(text)"),
+    "tokens": ("tokenize(text)", "is_word(text)"),
+    "trees": ("write_expression(e)", "write_program(program)", "parts_of(e)"),
+    "parsing": ("parse_program(text)", "parse_expression(text)"),
+    "sizes": ("check(program)", "output_sizes(program)", "count_numbers(sizes)"),
 }
 
 CLASSES = {
@@ -40,6 +46,9 @@ CLASSES = {
                                 "poly(self)", "throw(self, number)", "line(self)"),
     ("asking", "Asker"): ("__init__(self, circuit, rows, outputs)", "wants(self)", "throw(self, number)",
                           "answer(self, values)"),
+    ("bluffing", "Bluffer"): ("__init__(self, circuit, rows, claimed, choices)", "outputs(self)", "begin(self, layer, point)",
+                              "poly(self)", "throw(self, number)", "line(self)"),
+    ("bluffing", "Guesser"): (),
 }
 
 

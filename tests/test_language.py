@@ -153,12 +153,104 @@ class NamesTest(unittest.TestCase):
                           if isinstance(node, ast.Attribute) and isinstance(node.ctx, ast.Store)}
                 self.assertFalse(stored & set(methods), (name, kind.name))
 
+    def test_names_of_methods_and_attributes(self):
+        """No own method or attribute has a name that values of Python's own have, but for those that may."""
+        known = {word for kind in (str, int, list, dict, set, bytes) for word in dir(kind) if not word.startswith("_")}
+        barred = set("""items keys values pop update append clear extend insert remove reverse setdefault sort args encode
+                     decode hex fromhex format""".split())
+        for name, tree in trees():
+            for kind in [part for part in tree.body if isinstance(part, ast.ClassDef)]:
+                methods = {part.name for part in kind.body if isinstance(part, ast.FunctionDef)}
+                self.assertFalse(methods & (known - METHODS - {"add", "discard"}), (name, kind.name))
+            for node in ast.walk(tree):
+                if isinstance(node, ast.Attribute) and isinstance(node.ctx, ast.Store):
+                    self.assertNotIn(node.attr, barred, name)
+
+    def test_attributes_that_are_read(self):
+        """What is read off an object is assigned by some class, or is a method."""
+        stored, methods = set(), set(METHODS)
+        for _, tree in trees():
+            methods |= {function.name for function in functions(tree)}
+            stored |= {node.attr for node in ast.walk(tree)
+                       if isinstance(node, ast.Attribute) and isinstance(node.ctx, ast.Store)}
+        for name, tree in trees():
+            for node in ast.walk(tree):
+                if isinstance(node, ast.Attribute):
+                    self.assertIn(node.attr, stored | methods, name)
+
+    def test_no_method_is_read_off_a_class(self):
+        kinds = {part.name for _, tree in trees() for part in tree.body if isinstance(part, ast.ClassDef)}
+        for name, tree in trees():
+            for node in ast.walk(tree):
+                if isinstance(node, ast.Attribute) and isinstance(node.value, ast.Name):
+                    self.assertNotIn(node.value.id, kinds, name)
+
+    def test_methods_and_functions_are_only_called(self):
+        """A method of an own class is called where it stands, never passed on."""
+        methods = {part.name for _, tree in trees() for kind in tree.body if isinstance(kind, ast.ClassDef)
+                   for part in kind.body if isinstance(part, ast.FunctionDef)}
+        stored = {node.attr for _, tree in trees() for node in ast.walk(tree)
+                  if isinstance(node, ast.Attribute) and isinstance(node.ctx, ast.Store)}
+        for name, tree in trees():
+            called = {id(node.func) for node in ast.walk(tree) if isinstance(node, ast.Call)}
+            for node in ast.walk(tree):
+                if isinstance(node, ast.Attribute) and node.attr in methods - stored:
+                    self.assertIn(id(node), called, (name, node.attr))
+
+    def test_caught_errors(self):
+        """A handler's name is no other name of its function, and nobody catches more than own errors."""
+        own = {part.name for _, tree in trees() for part in tree.body if isinstance(part, ast.ClassDef)}
+        for name, tree in trees():
+            for function in functions(tree):
+                handlers = [node for node in ast.walk(function) if isinstance(node, ast.ExceptHandler)]
+                caught = [node.name for node in handlers if node.name is not None]
+                self.assertEqual(len(caught), len(set(caught)), (name, function.name))
+                self.assertFalse(set(caught) & local_names(function), (name, function.name))
+                for node in handlers:
+                    self.assertIsInstance(node.type, ast.Name, name)
+                    self.assertIn(node.type.id, own, name)
+
     def test_methods_that_are_called(self):
         own = {function.name for _, tree in trees() for function in functions(tree)}
         for name, tree in trees():
             for node in ast.walk(tree):
                 if isinstance(node, ast.Call) and isinstance(node.func, ast.Attribute):
                     self.assertIn(node.func.attr, own | METHODS, name)
+
+
+def docstrings(tree):
+    """The constants of a tree that are docstrings."""
+    found = set()
+    for node in ast.walk(tree):
+        if isinstance(node, (ast.Module, ast.ClassDef, ast.FunctionDef)) and node.body:
+            first = node.body[0]
+            if isinstance(first, ast.Expr) and isinstance(first.value, ast.Constant):
+                found.add(id(first.value))
+    return found
+
+
+class StringsTest(unittest.TestCase):
+    def test_words_that_stand_in_no_string(self):
+        words = re.compile(r"\b(typing|typing_extensions|enum|Enum|IntEnum|StrEnum|Flag|IntFlag|Generic|Protocol|ABC|ABCMeta|"
+                           r"namedtuple|NamedTuple|TypedDict|TYPE_CHECKING|abstractmethod)\b|dataclass|overload|contextmanager")
+        for name, tree in trees():
+            told = docstrings(tree)
+            for node in ast.walk(tree):
+                if isinstance(node, ast.Constant) and isinstance(node.value, str) and id(node) not in told:
+                    self.assertNotRegex(node.value, words, name)
+                    self.assertFalse(node.value.endswith(("._", ".__")), name)
+                    self.assertNotRegex(node.value, r"^__|[^ -~\n]", name)
+
+    def test_strings_in_braces(self):
+        """No string, f-string or bytes inside the braces of an f-string, and none over two lines."""
+        for name, tree in trees():
+            for node in ast.walk(tree):
+                if isinstance(node, ast.JoinedStr):
+                    self.assertEqual(node.lineno, node.end_lineno, name)
+                    for part in node.values:
+                        if isinstance(part, ast.FormattedValue):
+                            self.assertFalse([inner for inner in ast.walk(part.value) if isinstance(inner, (ast.JoinedStr, ast.Constant))
+                                              and not isinstance(getattr(inner, "value", None), int)], name)
 
 
 class SyntaxTest(unittest.TestCase):
@@ -185,6 +277,38 @@ class SyntaxTest(unittest.TestCase):
                 if isinstance(node, ast.Compare) and any(isinstance(sign, (ast.Is, ast.IsNot)) for sign in node.ops):
                     other = node.comparators[0]
                     self.assertTrue(isinstance(other, ast.Constant) and other.value in (None, True, False), name)
+
+    def test_loops_do_not_change_what_they_go_over(self):
+        changing = set("append clear extend insert pop remove reverse setdefault update sort".split())
+        for name, tree in trees():
+            for loop in ast.walk(tree):
+                if isinstance(loop, ast.For):
+                    over = {ast.dump(node) for node in ast.walk(loop.iter) if isinstance(node, (ast.Name, ast.Attribute))}
+                    for node in [inner for part in loop.body for inner in ast.walk(part)]:
+                        if isinstance(node, ast.Attribute) and node.attr in changing:
+                            self.assertNotIn(ast.dump(node.value), over, (name, loop.lineno))
+                        if isinstance(node, ast.Subscript) and isinstance(node.ctx, (ast.Store, ast.Del)):
+                            self.assertNotIn(ast.dump(node.value).replace("Store()", "Load()"), over, (name, loop.lineno))
+
+    def test_module_values(self):
+        """What stands at module level contains no list or dict inside a list or dict, and is only read."""
+        for name, tree in trees():
+            for part in tree.body:
+                if isinstance(part, ast.Assign):
+                    self.assertEqual(len(part.targets), 1, name)
+                    for node in ast.walk(part.value):
+                        self.assertNotIsInstance(node, (ast.Call, ast.ListComp, ast.Set, ast.Lambda), name)
+                    inside = [node for node in ast.walk(part.value) if isinstance(node, (ast.List, ast.Dict))]
+                    self.assertFalse(inside and (len(inside) > 1 or inside[0] is not part.value), name)
+
+    def test_sets_stay_local(self):
+        """A set stands in a local name, or directly in sorted or len or behind in."""
+        for name, tree in trees():
+            for node in ast.walk(tree):
+                if isinstance(node, (ast.Return, ast.Attribute, ast.Dict, ast.List, ast.Tuple)):
+                    for child in ast.iter_child_nodes(node):
+                        self.assertNotIsInstance(child, (ast.Set, ast.SetComp), name)
+                        self.assertFalse(isinstance(child, ast.Call) and getattr(child.func, "id", "") == "set", name)
 
     def test_views_are_iterated_at_once(self):
         for name, tree in trees():
