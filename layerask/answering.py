@@ -148,18 +148,23 @@ class Answerer:
 
 def answers(answerer, throws):
     """The answers of an answerer in a conversation with these throws."""
+    at = answerer.bits + width(answerer.circuit, 0)
+    told, _ = answers_from(answerer, throws[:at], throws[at:])
+    return told
+
+
+def answers_from(answerer, point, throws):
+    """The answers from a point of layer 0 on, with the throws behind it, and the point of the last layer."""
     circuit = answerer.circuit
-    bits = answerer.bits
-    at = bits + width(circuit, 0)
-    point = throws[:at]
     told = []
+    at = 0
     for layer in range(depth(circuit)):
-        rounds = rounds_of(circuit, bits, layer)
+        rounds = rounds_of(circuit, answerer.bits, layer)
         of_layer = throws[at:at + rounds + 1]
         told.append(answers_of_layer(answerer, layer, point, of_layer))
-        point = next_point(of_layer, bits, width(circuit, layer + 1), answerer.p)
+        point = next_point(of_layer, answerer.bits, width(circuit, layer + 1), answerer.p)
         at += rounds + 1
-    return told
+    return told, point
 
 
 def answers_of_layer(answerer, layer, point, throws):

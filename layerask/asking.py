@@ -25,21 +25,24 @@ def check_outputs(circuit, rows, outputs):
             raise CircuitError("outputs")
 
 
-class Asker:
-    """The asker of the claim that a circuit has certain outputs."""
+def check_talk(circuit, rows, outputs):
+    """Raises the errors of a conversation about a valid circuit that cannot begin."""
+    check_talk_modulus(circuit)
+    checked_rows(circuit, rows)
+    check_outputs(circuit, rows, outputs)
 
-    def __init__(self, circuit, rows, outputs):
-        checked(circuit)
-        check_talk_modulus(circuit)
-        checked_rows(circuit, rows)
-        check_outputs(circuit, rows, outputs)
+
+class Questions:
+    """The asker of a conversation; nothing that it is given is checked."""
+
+    def __init__(self, circuit, dims, inputs, outputs):
         self.result = None
         self.work = 0
         self._circuit = copied(circuit)
         self._p = modulus(circuit)
-        self._dims = row_bits(rows)
-        self._inputs = rows_table(rows)
-        self._outputs = rows_table(outputs)
+        self._dims = dims
+        self._inputs = list(inputs)
+        self._outputs = list(outputs)
         self._point = []
         self._turn = None
         self._at = 0
@@ -119,6 +122,38 @@ class Asker:
         self._due = "nothing"
 
 
+class Asker:
+    """The asker of the claim that a circuit has certain outputs."""
+
+    def __init__(self, circuit, rows, outputs):
+        checked(circuit)
+        check_talk(circuit, rows, outputs)
+        self._questions = Questions(circuit, row_bits(rows), rows_table(rows), rows_table(outputs))
+        self.result = None
+        self.work = 0
+        self._look()
+
+    def wants(self):
+        """What comes next: "throw", "polynomial", "line" or "nothing"."""
+        return self._questions.wants()
+
+    def throw(self, number):
+        """Takes a throw."""
+        self._questions.throw(number)
+        self._look()
+
+    def answer(self, values):
+        """Takes an answer; tells whether it fits."""
+        fits = self._questions.answer(values)
+        self._look()
+        return fits
+
+    def _look(self):
+        """Takes over how far the questions are."""
+        self.result = self._questions.result
+        self.work = self._questions.work
+
+
 def has_answers(pair, rounds):
     """Whether a pair of answers to a layer has as many polynomials as the layer has rounds."""
     if not isinstance(pair, tuple) or len(pair) != 2:
@@ -126,21 +161,23 @@ def has_answers(pair, rounds):
     return isinstance(pair[0], list) and len(pair[0]) == rounds
 
 
-def check_talk(circuit, dims, throws, answers):
-    """Raises TalkError if there are not as many throws or answers as a conversation has."""
+def check_throws(circuit, dims, throws):
+    """Raises TalkError if there are not as many throws as a conversation has."""
     if len(throws) != first_throws(circuit, dims) + len(plan(circuit, dims)):
         raise TalkError("throws")
-    if len(answers) != depth(circuit):
+
+
+def check_answers(circuit, dims, answers):
+    """Raises TalkError if there are not as many answers as a conversation has."""
+    if not isinstance(answers, list) or len(answers) != depth(circuit):
         raise TalkError("answers")
     for layer, pair in enumerate(answers):
         if not has_answers(pair, rounds_of(circuit, dims, layer)):
             raise TalkError("answers")
 
 
-def judge(circuit, rows, outputs, throws, answers):
-    """The result of a whole conversation."""
-    asker = Asker(circuit, rows, outputs)
-    check_talk(circuit, row_bits(rows), throws, answers)
+def play(asker, throws, answers):
+    """The result of a conversation with these throws and answers to all layers."""
     told = [values for polys, line in answers for values in polys + [line]]
     thrown = 0
     answered = 0
@@ -152,3 +189,11 @@ def judge(circuit, rows, outputs, throws, answers):
             asker.answer(told[answered])
             answered += 1
     return asker.result
+
+
+def judge(circuit, rows, outputs, throws, answers):
+    """The result of a whole conversation."""
+    asker = Asker(circuit, rows, outputs)
+    check_throws(circuit, row_bits(rows), throws)
+    check_answers(circuit, row_bits(rows), answers)
+    return play(asker, throws, answers)

@@ -2,8 +2,7 @@
 
 from layerask.answering import honest_talk
 from layerask.asking import judge
-from layerask.circuits import modulus, row_bits, rows_table
-from layerask.counts import first_throws
+from layerask.circuits import modulus, rows_table
 from layerask.cubes import value_at
 from layerask.polys import value
 
@@ -29,18 +28,24 @@ def agreements(sent, honest, throws, p):
     return places
 
 
+def place_of(claimed, true, sent, honest, throws, p):
+    """The first place where two different things agree by the throw, for tables of outputs and answers to all layers.
+
+    It is None if both tables are the same. By point 0.8 there is one otherwise,
+    if the claimed table was believed.
+    """
+    if claimed == true:
+        return None
+    # The first point has a number for each dimension of the table.
+    first = len(claimed).bit_length() - 1
+    if value_at(claimed, throws[:first], p) == value_at(true, throws[:first], p):
+        return ("outputs",)
+    return agreements(sent, honest, throws[first:], p)[0]
+
+
 def blame(circuit, rows, outputs, throws, answers):
     """The blame, or None if the claimed outputs are right or not believed."""
     if judge(circuit, rows, outputs, throws, answers) != ("believed",):
         return None
-    p = modulus(circuit)
-    true_table, honest = honest_talk(circuit, rows, throws)
-    claimed_table = rows_table(outputs)
-    if claimed_table == true_table:
-        return None
-    first = first_throws(circuit, row_bits(rows))
-    point = throws[:first]
-    if value_at(claimed_table, point, p) == value_at(true_table, point, p):
-        return ("outputs",)
-    # By point 0.8 there is always a place.
-    return agreements(answers, honest, throws[first:], p)[0]
+    true, honest = honest_talk(circuit, rows, throws)
+    return place_of(rows_table(outputs), true, answers, honest, throws, modulus(circuit))

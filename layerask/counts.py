@@ -13,7 +13,7 @@ def plan(circuit, dims):
     degrees = []
     for layer in range(depth(circuit)):
         bits = width(circuit, layer + 1)
-        degrees = degrees + [3] * dims + [2] * (2 * bits) + [bits]
+        degrees += [3] * dims + [2] * (2 * bits) + [bits]
     return degrees
 
 
@@ -27,13 +27,24 @@ def share(circuit, dims):
     return first_throws(circuit, dims) + sum(plan(circuit, dims))
 
 
+def whole_power(base, exponent):
+    """The power of an integer, by squares; the numbers of long chains have many thousand digits."""
+    result = 1
+    square = base
+    left = exponent
+    while left > 0:
+        if left & 1:
+            result = result * square
+        left = left >> 1
+        if left > 0:
+            square = square * square
+    return result
+
+
 def most_believed(circuit, dims):
     """The most rows of throws with which a false claim is believed, as far as is told."""
     p = modulus(circuit)
-    most = min(p, share(circuit, dims))
-    for _ in range(throws(circuit, dims) - 1):
-        most = most * p
-    return most
+    return min(p, share(circuit, dims)) * whole_power(p, throws(circuit, dims) - 1)
 
 
 def told_work(circuit, dims):

@@ -54,22 +54,20 @@ class Reader:
         self._at += 1
         return True
 
+    def take_any(self):
+        """Takes the next token, whatever it is; returns its word, sign, name or number."""
+        self._at += 1
+        return self._tokens[self._at - 1][1]
+
     def take_name(self):
         """Takes a name."""
         self.check(self.is_next("name"))
-        self._at += 1
-        return self._tokens[self._at - 1][1]
+        return self.take_any()
 
     def take_number(self, least, most):
         """Takes a number in a range."""
         self.check(self.is_next("number") and least <= self.ahead() <= most)
-        return self.take_any_number()
-
-    def take_any_number(self):
-        """Takes a number."""
-        self.check(self.is_next("number"))
-        self._at += 1
-        return self._tokens[self._at - 1][1]
+        return self.take_any()
 
     def begin(self):
         """Begins to read an expression that is not in another one."""
@@ -113,9 +111,9 @@ def read_closed_list(reader, first, last):
 def read_single(reader):
     """A number, a name, a call, an array, or an expression in parentheses."""
     if reader.is_next("number"):
-        return ("num", reader.take_any_number())
+        return ("num", reader.take_any())
     if reader.is_next("name"):
-        name = reader.take_name()
+        name = reader.take_any()
         if reader.ahead() == "(":
             return ("call", name, read_closed_list(reader, "(", ")"))
         return ("name", name)

@@ -1,16 +1,14 @@
 """The trees of programs and their written form (points 14.2 and 14.6)."""
 
-# How tightly a form binds: 0 for those that stand only where a whole expression stands.
+# How tightly an expression binds; LOOSE are those that stand only where a whole expression stands.
 LOOSE = 0
 NOT = 3
 EQUAL = 4
-POWER = 7
 SIGNED = 8
 SINGLE = 9
 
-OPERATORS = {"or": 1, "and": 2, "==": EQUAL, "+": 5, "-": 5, "*": 6}
-OTHERS = {"not": NOT, "power": POWER, "neg": SIGNED, "num": SINGLE, "name": SINGLE, "call": SINGLE, "array": SINGLE,
-          "at": SINGLE}
+OPERATORS = {"or": 1, "and": 2, "==": 4, "+": 5, "-": 5, "*": 6}
+OTHERS = {"not": 3, "power": 7, "neg": 8, "num": 9, "name": 9, "call": 9, "array": 9, "at": 9}
 LOOPS = ("sum", "product", "each")
 
 

@@ -123,7 +123,7 @@ class BlufferTest(unittest.TestCase):
                 bluffer = kept(self, kind, circuit, rows, claimed, choices)
                 self.assertNotIsInstance(bluffer, Answerer)
                 self.assertIsInstance(bluffer, Bluffer)
-                self.assertEqual((bluffer.circuit, bluffer.bits, bluffer.p), (circuit, dims, 97))
+                self.assertEqual((bluffer.circuit, bluffer.bits, bluffer.p, bluffer.steps), (circuit, dims, 97, 0))
                 unshared(self, bluffer.circuit, circuit)
                 found = bluffer.outputs()
                 self.assertEqual(found, claimed)

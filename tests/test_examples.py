@@ -6,7 +6,7 @@ import unittest
 
 PLACE = os.path.join(os.path.dirname(os.path.abspath(__file__)), "examples.txt")
 MODULES = ("field", "polys", "cubes", "sums", "circuits", "wiring", "answering", "counts", "bluffing", "talks", "parsing",
-           "sizes")
+           "sizes", "meaning", "graphs", "layers", "jobs", "console", "chains")
 
 
 class ExamplesTest(unittest.TestCase):

@@ -32,6 +32,16 @@ FUNCTIONS = {
     "trees": ("write_expression(e)", "write_program(program)", "parts_of(e)"),
     "parsing": ("parse_program(text)", "parse_expression(text)"),
     "sizes": ("check(program)", "output_sizes(program)", "count_numbers(sizes)"),
+    "meaning": ("evaluate(program, numbers)",),
+    "graphs": ("build(program)", "evaluate_graph(graph, numbers)"),
+    "layers": ("levels(graph)", "circuit_of(graph)", "circuit_of_program(program)", "input_columns(circuit, numbers)"),
+    "jobs": (),
+    "console": ("run_script(text)",),
+    "chains": ("checked_chain(circuits)", "run_chain(circuits, rows)", "chain_plan(circuits, dims)",
+               "chain_throws(circuits, dims)", "chain_share(circuits, dims)", "chain_most(circuits, dims)",
+               "chain_work(circuits, dims)", "chain_answers(circuits, rows, throws)",
+               "judge_chain(circuits, rows, outputs, throws, answers)",
+               "blame_chain(circuits, rows, outputs, throws, answers)"),
 }
 
 CLASSES = {
@@ -49,6 +59,10 @@ CLASSES = {
     ("bluffing", "Bluffer"): ("__init__(self, circuit, rows, claimed, choices)", "outputs(self)", "begin(self, layer, point)",
                               "poly(self)", "throw(self, number)", "line(self)"),
     ("bluffing", "Guesser"): (),
+    ("jobs", "Job"): ("__init__(self, text)", "columns(self, rows)", "claimed(self, claims)", "meaning(self, rows)",
+                      "honest(self, rows, dice)", "asked(self, rows, claims, dice, told)", "throw_count(self, rows)"),
+    ("chains", "ChainAsker"): ("__init__(self, circuits, rows, outputs)", "wants(self)", "throw(self, number)",
+                               "answer(self, values)"),
 }
 
 
