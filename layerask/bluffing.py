@@ -139,7 +139,33 @@ class Bluffer:
 
 
 class Guesser(Bluffer):
-    """A bluffer that hopes for certain throws, its choices, behind which its claim is true."""
+    """A bluffer that hopes for certain throws, its choices, behind which its claim is true.
+
+    It is asked as any bluffer is; only what it sends in a round is its own.
+    """
+
+    def __init__(self, circuit, rows, claimed, choices):
+        super().__init__(circuit, rows, claimed, choices)
+
+    def outputs(self):
+        """The claimed table of layer 0."""
+        return super().outputs()
+
+    def begin(self, layer, point):
+        """Begins a layer, or begins it again, at a point."""
+        super().begin(layer, point)
+
+    def poly(self):
+        """The values of the polynomial of this round."""
+        return super().poly()
+
+    def throw(self, number):
+        """Takes the throw of this round, or that of the line."""
+        super().throw(number)
+
+    def line(self):
+        """The values on the line from x to y."""
+        return super().line()
 
     def _round_values(self, honest):
         """The honest values plus a difference that is 0 at the guesses, if there is one."""

@@ -45,9 +45,10 @@ FUNCTIONS = {
 }
 
 CLASSES = {
-    ("errors", "LayeraskError"): (), ("errors", "FieldError"): (), ("errors", "CircuitError"): (),
-    ("errors", "TalkError"): (), ("errors", "TextError"): (), ("errors", "ProgramError"): (),
-    ("errors", "SizeError"): (), ("errors", "CommandError"): (),
+    ("errors", "LayeraskError"): (), ("errors", "FieldError"): ("__init__(self, number)",),
+    ("errors", "CircuitError"): ("__init__(self, part)",), ("errors", "TalkError"): ("__init__(self, step)",),
+    ("errors", "TextError"): ("__init__(self, line)",), ("errors", "CommandError"): ("__init__(self, line)",),
+    ("errors", "ProgramError"): ("__init__(self, kind, line)",), ("errors", "SizeError"): ("__init__(self, limit)",),
     ("sums", "SumAsker"): ("__init__(self, p, claim, degrees)", "accept(self, values)", "throw(self, number)",
                            "is_done(self)"),
     ("turns", "Turn"): ("__init__(self, circuit, layer, dims, point, claim)", "accept_line(self, values)",
@@ -58,12 +59,17 @@ CLASSES = {
                           "answer(self, values)"),
     ("bluffing", "Bluffer"): ("__init__(self, circuit, rows, claimed, choices)", "outputs(self)", "begin(self, layer, point)",
                               "poly(self)", "throw(self, number)", "line(self)"),
-    ("bluffing", "Guesser"): (),
+    ("bluffing", "Guesser"): ("__init__(self, circuit, rows, claimed, choices)", "outputs(self)", "begin(self, layer, point)",
+                              "poly(self)", "throw(self, number)", "line(self)"),
     ("jobs", "Job"): ("__init__(self, text)", "columns(self, rows)", "claimed(self, claims)", "meaning(self, rows)",
                       "honest(self, rows, dice)", "asked(self, rows, claims, dice, told)", "throw_count(self, rows)"),
     ("chains", "ChainAsker"): ("__init__(self, circuits, rows, outputs)", "wants(self)", "throw(self, number)",
                                "answer(self, values)"),
 }
+
+# Classes that the interface does not list.
+HELPERS = (("asking", "Questions"), ("talks", "Pieces"), ("parsing", "Reader"), ("sizes", "Function"), ("sizes", "Checker"),
+           ("meaning", "Numbers"), ("meaning", "Scope"), ("graphs", "Builder"), ("console", "Settings"))
 
 
 def body_of(module):
@@ -90,6 +96,21 @@ class InterfaceTest(unittest.TestCase):
             found = [written(part) for part in parts[0].body if isinstance(part, ast.FunctionDef)]
             for signature in expected:
                 self.assertIn(signature, found)
+
+    def test_classes_have_their_methods_themselves(self):
+        """Inheriting a listed method is not enough, __init__ included."""
+        for (module, name), expected in CLASSES.items():
+            held = getattr(importlib.import_module("layerask." + module), name)
+            self.assertEqual(held.__module__, "layerask." + module)
+            for signature in expected:
+                self.assertIn(signature.split("(")[0], vars(held), name)
+
+    def test_every_public_class_is_listed(self):
+        """So that the look at the methods leaves no class of the interface out."""
+        for module in FUNCTIONS:
+            for part in body_of(module):
+                if isinstance(part, ast.ClassDef) and (module, part.name) not in CLASSES:
+                    self.assertIn((module, part.name), HELPERS)
 
     def test_they_are_imported_by_their_modules(self):
         for module in FUNCTIONS:
