@@ -1,6 +1,6 @@
 """The honest answerer (point 9)."""
 
-from layerask.circuits import copied, depth, gate_values, gates_of, modulus, row_bits, run, width
+from layerask.circuits import copied, depth, gates_of, modulus, row_bits, run, width
 from layerask.cubes import between, fold, line_values, point_table
 
 ROW_VALUES = 4
@@ -16,7 +16,7 @@ class Answerer:
     """An answerer that runs the circuit and answers honestly."""
 
     def __init__(self, circuit, rows):
-        self._tables = run(circuit, rows)
+        self._tables = self._run(circuit, rows)
         self.circuit = copied(circuit)
         self.bits = row_bits(rows)
         self.p = modulus(circuit)
@@ -24,7 +24,9 @@ class Answerer:
         self._gates = []
         self._near_gates = []
         self._near_rows = []
-        self._columns = []
+        self._table = []
+        self._factors_of_row = []
+        self._products_of_row = []
         self._values = []
         self._factors = []
         self._offsets = []
@@ -37,14 +39,13 @@ class Answerer:
 
     def begin(self, layer, point):
         """Begins a layer, or begins it again, at a point."""
-        many = 1 << self.bits
-        table = self._tables[layer + 1]
         self._width = width(self.circuit, layer + 1)
-        self._gates = gates_of(self.circuit, layer)
+        self._gates = self._gates_at(layer)
         self._near_rows = point_table(point[:self.bits], self.p)
         self._near_gates = point_table(point[self.bits:], self.p)
-        self._columns = [table[at:at + many] for at in range(0, len(table), many)]
+        self._table = list(self._tables[layer + 1])
         self._throws = []
+        self._prepare_rows()
         self._enter_round()
 
     def poly(self):
@@ -61,7 +62,7 @@ class Answerer:
             return
         if done < self.bits:
             self._near_rows = fold(self._near_rows, number, self.p)
-            self._columns = [fold(column, number, self.p) for column in self._columns]
+            self._table = fold(self._table, number, self.p)
         else:
             self._values = fold(self._values, number, self.p)
             self._factors = fold(self._factors, number, self.p)
@@ -72,8 +73,28 @@ class Answerer:
     def line(self):
         """The values of the next layer on the line from x to y."""
         middle = self.bits + self._width
-        table = [column[0] for column in self._columns]
-        return line_values(table, self._throws[self.bits:middle], self._throws[middle:], self.p)
+        return line_values(self._table, self._throws[self.bits:middle], self._throws[middle:], self.p)
+
+    def _run(self, circuit, rows):
+        """The tables of all layers."""
+        return run(circuit, rows)
+
+    def _gates_at(self, layer):
+        """The gates of a layer."""
+        return gates_of(self.circuit, layer)
+
+    def _prepare_rows(self):
+        """Writes the sum over all gates as one of factors times columns and of numbers times two columns."""
+        self._factors_of_row = [0] * (1 << self._width)
+        self._products_of_row = []
+        for near, gate in zip(self._near_gates, self._gates):
+            if gate[0] == "lin":
+                _, a, x, b, y = gate
+                self._factors_of_row[x] = (self._factors_of_row[x] + near * a) % self.p
+                self._factors_of_row[y] = (self._factors_of_row[y] + near * b) % self.p
+            else:
+                _, c, x, y = gate
+                self._products_of_row.append((near * c % self.p, x, y))
 
     def _enter_round(self):
         """Prepares the rounds of x or of y if they begin at this place."""
@@ -84,8 +105,8 @@ class Answerer:
 
     def _enter_first(self):
         """Prepares the rounds of x: the sum is then one over x of factor times value plus offset."""
-        table = [column[0] for column in self._columns]
-        self._begin_columns(table)
+        table = self._table
+        self._begin_columns()
         for near, gate in self._near_by_gate():
             if gate[0] == "lin":
                 _, a, x, b, y = gate
@@ -96,10 +117,9 @@ class Answerer:
 
     def _enter_second(self):
         """Prepares the rounds of y in the same way, x being thrown."""
-        table = [column[0] for column in self._columns]
         at_first = self._values[0]
         near_first = point_table(self._throws[self.bits:], self.p)
-        self._begin_columns(table)
+        self._begin_columns()
         for near, gate in self._near_by_gate():
             if gate[0] == "lin":
                 _, a, x, b, y = gate
@@ -109,12 +129,12 @@ class Answerer:
                 _, c, x, y = gate
                 self._add_at(y, near * near_first[x] * c * at_first, 0)
 
-    def _begin_columns(self, table):
+    def _begin_columns(self):
         """Sets the values of the columns, and factors and offsets that are still 0."""
         self.steps += len(self._gates)
-        self._values = table
-        self._factors = [0] * len(table)
-        self._offsets = [0] * len(table)
+        self._values = self._table
+        self._factors = [0] * len(self._table)
+        self._offsets = [0] * len(self._table)
 
     def _near_by_gate(self):
         """The gates, each with the nearness of its column and of the thrown row."""
@@ -129,13 +149,19 @@ class Answerer:
     def _row_value(self, t):
         """The value of the sum for the number t in the place of the next variable of the row."""
         near_rows = fold(self._near_rows, t, self.p)
-        columns = [fold(column, t, self.p) for column in self._columns]
-        self.steps += len(near_rows) * (len(columns) + len(self._gates))
+        table = fold(self._table, t, self.p)
+        many = len(near_rows)
+        self.steps += many * (len(self._factors_of_row) + len(self._gates))
         result = 0
-        for near, gate in zip(self._near_gates, self._gates):
-            found = gate_values(gate, columns, self.p)
-            result += near * (sum(here * entry for here, entry in zip(near_rows, found)) % self.p)
+        for row, near in enumerate(near_rows):
+            result += near * self._row_sum(table[row::many])
         return result % self.p
+
+    def _row_sum(self, columns):
+        """The sum over all gates for the columns of a row."""
+        linear = sum([factor * entry for factor, entry in zip(self._factors_of_row, columns)])
+        products = sum([number * columns[x] * columns[y] for number, x, y in self._products_of_row])
+        return (linear + products) % self.p
 
     def _column_value(self, t):
         """The value of the sum for the number t in the place of the next variable of x or y."""

@@ -2,11 +2,16 @@
 
 from layerask.answering import rounds_of
 from layerask.circuits import checked, checked_rows, copied, depth, modulus, row_bits, rows_table, width
-from layerask.counts import first_throws, plan
+from layerask.counts import first_throws, many_throws
 from layerask.cubes import value_at
 from layerask.errors import CircuitError, TalkError
 from layerask.field import are_numbers, is_number
 from layerask.turns import Turn
+
+
+# The results of a conversation in which every answer fits: with the last comparison, or without it.
+BELIEVED = ("believed",)
+CLAIMED = ("claimed",)
 
 
 def check_talk_modulus(circuit):
@@ -33,16 +38,22 @@ def check_talk(circuit, rows, outputs):
 
 
 class Questions:
-    """The asker of a conversation; nothing that it is given is checked."""
+    """The asker of a conversation about the tables of inputs and outputs; nothing is checked or copied.
+
+    Without a table of inputs, the claim about it is not compared, but the result.
+    """
 
     def __init__(self, circuit, dims, inputs, outputs):
         self.result = None
         self.work = 0
-        self._circuit = copied(circuit)
+        # The claim about the last layer, as soon as it is made.
+        self.last_point = None
+        self.last_claim = None
+        self._circuit = circuit
         self._p = modulus(circuit)
         self._dims = dims
-        self._inputs = list(inputs)
-        self._outputs = list(outputs)
+        self._inputs = inputs
+        self._outputs = outputs
         self._point = []
         self._turn = None
         self._at = 0
@@ -85,14 +96,31 @@ class Questions:
     def _take_claim(self, point, claim):
         """Begins to ask about the next layer, or compares the claim with the inputs."""
         if self._at < depth(self._circuit):
-            self._turn = Turn(self._circuit, self._at, self._dims, point, claim)
+            self._turn = self._new_turn(point, claim)
             self._due = self._due_answer()
             return
+        self.last_point = point
+        self.last_claim = claim
+        if self._inputs is None:
+            self._end(CLAIMED)
+        else:
+            self._compare()
+
+    def _compare(self):
+        """Compares the last claim with the inputs."""
         self.work += len(self._inputs)
-        if value_at(self._inputs, point, self._p) == claim:
-            self._end(("believed",))
+        if value_at(self._inputs, self.last_point, self._p) == self.last_claim:
+            self._end(BELIEVED)
         else:
             self._end(("refused", self._at, "inputs"))
+
+    def _new_turn(self, point, claim):
+        """The asker of a claim about the present layer."""
+        return Turn(self._circuit, self._at, self._dims, point, claim)
+
+    def _weighing(self):
+        """What is counted for the weights of the present layer."""
+        return 1 << width(self._circuit, self._at)
 
     def _due_answer(self):
         """The answer that comes next in a layer."""
@@ -111,8 +139,8 @@ class Questions:
         if not self._turn.accept_line(values):
             self._end(("refused", self._at, "end"))
             return False
-        # The columns count because the weights were calculated for the line.
-        self.work += len(values) + (1 << width(self._circuit, self._at))
+        # The weights were calculated for the line.
+        self.work += len(values) + self._weighing()
         self._due = "throw"
         return True
 
@@ -128,7 +156,7 @@ class Asker:
     def __init__(self, circuit, rows, outputs):
         checked(circuit)
         check_talk(circuit, rows, outputs)
-        self._questions = Questions(circuit, row_bits(rows), rows_table(rows), rows_table(outputs))
+        self._questions = Questions(copied(circuit), row_bits(rows), rows_table(rows), rows_table(outputs))
         self.result = None
         self.work = 0
         self._look()
@@ -163,7 +191,7 @@ def has_answers(pair, rounds):
 
 def check_throws(circuit, dims, throws):
     """Raises TalkError if there are not as many throws as a conversation has."""
-    if len(throws) != first_throws(circuit, dims) + len(plan(circuit, dims)):
+    if len(throws) != many_throws(circuit, dims):
         raise TalkError("throws")
 
 

@@ -1,7 +1,7 @@
 """The blame for a false claim that is believed (point 10.4)."""
 
 from layerask.answering import honest_talk
-from layerask.asking import judge
+from layerask.asking import BELIEVED, judge
 from layerask.circuits import modulus, rows_table
 from layerask.cubes import value_at
 from layerask.polys import value
@@ -31,8 +31,8 @@ def agreements(sent, honest, throws, p):
 def place_of(claimed, true, sent, honest, throws, p):
     """The first place where two different things agree by the throw, for tables of outputs and answers to all layers.
 
-    It is None if both tables are the same. By point 0.8 there is one otherwise,
-    if the claimed table was believed.
+    It is None if both tables are the same, or if there is no such place. By
+    point 0.8 there is one for tables that differ, if the claimed one was believed.
     """
     if claimed == true:
         return None
@@ -40,12 +40,13 @@ def place_of(claimed, true, sent, honest, throws, p):
     first = len(claimed).bit_length() - 1
     if value_at(claimed, throws[:first], p) == value_at(true, throws[:first], p):
         return ("outputs",)
-    return agreements(sent, honest, throws[first:], p)[0]
+    places = agreements(sent, honest, throws[first:], p)
+    return places[0] if len(places) > 0 else None
 
 
 def blame(circuit, rows, outputs, throws, answers):
     """The blame, or None if the claimed outputs are right or not believed."""
-    if judge(circuit, rows, outputs, throws, answers) != ("believed",):
+    if judge(circuit, rows, outputs, throws, answers) != BELIEVED:
         return None
     true, honest = honest_talk(circuit, rows, throws)
     return place_of(rows_table(outputs), true, answers, honest, throws, modulus(circuit))

@@ -1,7 +1,7 @@
 """Chains of circuits, in which the outputs of one are the inputs of the next one (point 21)."""
 
 from layerask.answering import Answerer, answers_from
-from layerask.asking import Questions, check_answers, check_talk, check_throws, play
+from layerask.asking import BELIEVED, Questions, check_answers, check_talk, check_throws, play
 from layerask.blame import place_of
 from layerask.circuits import checked, checked_rows, depth, layer_tables, modulus, output_rows
 from layerask.circuits import row_bits, rows_table, width
@@ -172,7 +172,7 @@ def judge_chain(circuits, rows, outputs, throws, answers):
 
 def blame_chain(circuits, rows, outputs, throws, answers):
     """The blame, or None if the claimed last state is right or not believed."""
-    if judge_chain(circuits, rows, outputs, throws, answers) != ("believed",):
+    if judge_chain(circuits, rows, outputs, throws, answers) != BELIEVED:
         return None
     states = run_chain(circuits, rows)
     honest = layers_of(told_by_links(circuits, states, throws))

@@ -29,10 +29,17 @@ def gates_of(circuit, layer):
     return list(circuit[3][layer])
 
 
+def copied_layer(circuit, layer):
+    """What tells a layer other than the last one, sharing no list with the circuit."""
+    told = circuit[3][layer]
+    # A layer of a regular circuit is told by a rule, which is a tuple.
+    return list(told) if isinstance(told, list) else told
+
+
 def copied(circuit):
-    """An equal circuit that shares no list with the given one."""
+    """An equal circuit, regular or not, that shares no list with the given one."""
     word, p, widths, layers = circuit
-    return (word, p, list(widths), [list(gates) for gates in layers])
+    return (word, p, list(widths), [copied_layer(circuit, layer) for layer in range(len(layers))])
 
 
 def has_form(circuit):

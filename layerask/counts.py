@@ -17,9 +17,14 @@ def plan(circuit, dims):
     return degrees
 
 
+def many_throws(circuit, dims):
+    """The number of the throws, for files in which "throws" is a list of them."""
+    return first_throws(circuit, dims) + len(plan(circuit, dims))
+
+
 def throws(circuit, dims):
     """The number of the throws."""
-    return first_throws(circuit, dims) + len(plan(circuit, dims))
+    return many_throws(circuit, dims)
 
 
 def share(circuit, dims):

@@ -20,6 +20,10 @@ class SumAsker:
         """Whether all rounds are over."""
         return len(self.throws) == len(self._degrees)
 
+    def is_thrown(self):
+        """Whether a throw comes next."""
+        return self._sent is not None
+
     def accept(self, values):
         """Takes the polynomial of a round; tells whether it fits."""
         if self.is_done() or self._sent is not None:
@@ -61,3 +65,13 @@ def fold_terms(terms, number, p):
 def honest(terms, degree, p):
     """The honest polynomial in the first variable, by its values at 0 to degree."""
     return [total(fold_terms(terms, t, p), p) for t in range(degree + 1)]
+
+
+def honest_rounds(terms, degree, throws, p):
+    """The honest polynomials of rounds with these throws, and the terms behind them."""
+    polys = []
+    left = terms
+    for number in throws:
+        polys.append(honest(left, degree, p))
+        left = fold_terms(left, number, p)
+    return polys, left

@@ -1,6 +1,6 @@
 """Turning a claim about a layer into one about the next layer (point 8)."""
 
-from layerask.circuits import gates_of, modulus, width
+from layerask.circuits import copied_layer, modulus, width
 from layerask.cubes import between, nearness
 from layerask.errors import TalkError
 from layerask.field import are_numbers
@@ -14,7 +14,7 @@ class Turn:
 
     def __init__(self, circuit, layer, dims, point, claim):
         self._p = modulus(circuit)
-        self._gates = gates_of(circuit, layer)
+        self._wiring = copied_layer(circuit, layer)
         self._dims = dims
         self._bits = width(circuit, layer + 1)
         self._row = point[:dims]
@@ -47,10 +47,14 @@ class Turn:
         middle = self._dims + self._bits
         return throws[:self._dims], throws[self._dims:middle], throws[middle:]
 
+    def _weights(self, g, x, y):
+        """The weights of the layer at three points."""
+        return weights(self._wiring, g, x, y, self._p)
+
     def _told_sum(self, values):
         """What the claim of the sum must be if the values on the line are right."""
         row, first, second = self._thrown()
-        of_x, of_y, of_both = weights(self._gates, self._column, first, second, self._p)
+        of_x, of_y, of_both = self._weights(self._column, first, second)
         start = values[0]
         # Without bits, x and y are the same point: the line is one value.
         end = values[1] if self._bits > 0 else start

@@ -6,7 +6,8 @@ import unittest
 
 PLACE = os.path.join(os.path.dirname(os.path.abspath(__file__)), "examples.txt")
 MODULES = ("field", "polys", "cubes", "sums", "circuits", "wiring", "answering", "counts", "bluffing", "talks", "parsing",
-           "sizes", "meaning", "graphs", "layers", "jobs", "console", "chains")
+           "sizes", "meaning", "graphs", "layers", "jobs", "console", "chains", "joining", "bundles", "tables", "stepping", "bags",
+           "regular")
 
 
 class ExamplesTest(unittest.TestCase):

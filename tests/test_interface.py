@@ -42,6 +42,20 @@ FUNCTIONS = {
                "chain_work(circuits, dims)", "chain_answers(circuits, rows, throws)",
                "judge_chain(circuits, rows, outputs, throws, answers)",
                "blame_chain(circuits, rows, outputs, throws, answers)"),
+    "joining": ("mixed(numbers, mix, p)", "join_answers(answerer, throws)"),
+    "bundles": ("checked_bundle(circuits, rows)", "bundle_throws(circuits, bits)", "bundle_share(circuits, bits)",
+                "judge_bundle(circuits, rows, outputs, throws, told)", "bundle_answers(circuits, rows, throws)",
+                "bundle_blame(circuits, rows, outputs, throws, told)"),
+    "tables": ("coefficients(entries, p)", "picking(entries, p)", "read_tables(text)", "parse_with_tables(text)"),
+    "stepping": ("state_size(program)", "state_circuit(program)"),
+    "bags": ("mark(row, s, p)", "product(rows, s, t, p)", "same_bag(rows, others, s, t, p)",
+             "among(rows, table, counts, s, t, p)", "in_order(rows)", "sorted_claim(rows, outputs, s, t, p)",
+             "bag_blame(rows, others, s, t, p)", "most_same(many, width, p)"),
+    "regular": ("regular(p, bits, rules)", "checked_regular(circuit)", "explicit(circuit)",
+                "regular_weights(rule, g, x, y, p)", "run_regular(circuit, rows)", "regular_answers(circuit, rows, throws)",
+                "regular_work(circuit, bits)", "judge_regular(circuit, rows, outputs, throws, told)",
+                "blame_regular(circuit, rows, outputs, throws, told)", "sum_circuit(p, bits)", "product_circuit(p, bits)",
+                "inner_circuit(p, bits)", "transform_circuit(p, bits)"),
 }
 
 CLASSES = {
@@ -65,11 +79,20 @@ CLASSES = {
                       "honest(self, rows, dice)", "asked(self, rows, claims, dice, told)", "throw_count(self, rows)"),
     ("chains", "ChainAsker"): ("__init__(self, circuits, rows, outputs)", "wants(self)", "throw(self, number)",
                                "answer(self, values)"),
+    ("joining", "Join"): ("__init__(self, p, points, claims)", "wants(self)", "throw(self, number)", "answer(self, values)",
+                          "answer_value(self, number)"),
+    ("joining", "JoinAnswerer"): ("__init__(self, p, table, points)", "throw(self, number)", "poly(self)", "value(self)"),
+    ("stepping", "StepJob"): ("__init__(self, text, steps)", "columns(self, rows)", "states(self, rows)",
+                              "honest(self, rows, dice)", "asked(self, rows, claims, dice, told)",
+                              "blamed(self, rows, claims, dice, told)", "throw_count(self, rows)"),
+    ("regular", "RegularAnswerer"): ("__init__(self, circuit, rows)", "outputs(self)", "begin(self, layer, point)",
+                                     "poly(self)", "throw(self, number)", "line(self)"),
 }
 
 # Classes that the interface does not list.
 HELPERS = (("asking", "Questions"), ("talks", "Pieces"), ("parsing", "Reader"), ("sizes", "Function"), ("sizes", "Checker"),
-           ("meaning", "Numbers"), ("meaning", "Scope"), ("graphs", "Builder"), ("console", "Settings"))
+           ("meaning", "Numbers"), ("meaning", "Scope"), ("graphs", "Builder"), ("console", "Settings"),
+           ("regular", "RegularTurn"), ("regular", "RegularQuestions"))
 
 
 def body_of(module):
