@@ -6,12 +6,31 @@ def fold(table, number, p):
     return [(low + number * (high - low)) % p for low, high in zip(table[::2], table[1::2])]
 
 
-def value_at(table, point, p):
-    """The value of a table at a point."""
-    left = table
+def fold_last(table, number, p):
+    """The table in which the last variable is the number."""
+    half = len(table) // 2
+    return [(low + number * (high - low)) % p for low, high in zip(table[:half], table[half:])]
+
+
+def with_first(table, point, p):
+    """The table in which the first variables are the numbers of a point."""
+    left = list(table)
     for number in point:
         left = fold(left, number, p)
-    return left[0]
+    return left
+
+
+def with_last(table, point, p):
+    """The table in which the last variables are the numbers of a point."""
+    left = list(table)
+    for number in reversed(point):
+        left = fold_last(left, number, p)
+    return left
+
+
+def value_at(table, point, p):
+    """The value of a table at a point."""
+    return with_first(table, point, p)[0]
 
 
 def point_table(point, p):

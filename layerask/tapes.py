@@ -44,7 +44,7 @@ class Tape:
 
     def compare(self, claim, true, place):
         """Ends the conversation if a claim that is compared is not true."""
-        if claim != true:
+        if self.result is None and claim != true:
             self.refuse(place)
 
     def believe(self):

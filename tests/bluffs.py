@@ -60,15 +60,15 @@ def counted(test, p, many, share, talk, seeds=(1, 2, 3), step=1):
     found = {}
     for seed in seeds:
         believed, rows = 0, 0
-        for at, throws in enumerate(product(range(p), repeat=many)):
-            if at % step == 0:
-                rows += 1
-                result, place = talk(list(throws), seed)
-                test.assertEqual(result == ("believed",), place is not None, (throws, result, place))
-                test.assertEqual(result[0], "refused" if place is None else "believed")
-                if place is not None:
-                    believed += 1
-                    found[place] = found.get(place, 0) + 1
+        for at in range(0, p ** many, step):
+            rows += 1
+            throws = [at // p ** k % p for k in range(many)]
+            result, place = talk(throws, seed)
+            test.assertEqual(result == ("believed",), place is not None, (throws, result, place))
+            test.assertEqual(result[0], "refused" if place is None else "believed")
+            if place is not None:
+                believed += 1
+                found[place] = found.get(place, 0) + 1
         if step == 1:
             test.assertLessEqual(believed * p, rows * share)
     return found

@@ -7,7 +7,7 @@ import unittest
 PLACE = os.path.join(os.path.dirname(os.path.abspath(__file__)), "examples.txt")
 MODULES = ("field", "polys", "cubes", "sums", "circuits", "wiring", "answering", "counts", "bluffing", "talks", "parsing",
            "sizes", "meaning", "graphs", "layers", "jobs", "console", "chains", "joining", "bundles", "tables", "stepping", "bags",
-           "regular")
+           "regular", "matrices", "walks", "largenodes", "largeroad")
 
 
 class ExamplesTest(unittest.TestCase):

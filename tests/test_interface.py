@@ -56,6 +56,23 @@ FUNCTIONS = {
                 "regular_work(circuit, bits)", "judge_regular(circuit, rows, outputs, throws, told)",
                 "blame_regular(circuit, rows, outputs, throws, told)", "sum_circuit(p, bits)", "product_circuit(p, bits)",
                 "inner_circuit(p, bits)", "transform_circuit(p, bits)"),
+    "matrices": ("multiply(left, right, sizes, p)", "transpose(table, a, b)", "check_sizes(sizes, p)",
+                 "check_matrix(table, bits, p)", "product_answers(answerer, throws)", "product_throws(sizes)",
+                 "product_share(sizes)", "product_work(sizes)", "judge_product(left, right, claimed, sizes, throws, told, p)",
+                 "blame_product(left, right, claimed, sizes, throws, told, p)"),
+    "walks": ("steps_of(exponent)", "power(table, bits, exponent, p)", "walk_throws(bits, exponent, whole)",
+              "walk_share(bits, exponent, whole)", "walk_answers(table, bits, exponent, claim, throws, p)",
+              "judge_walk(table, bits, exponent, claim, throws, told, p)",
+              "blame_walk(table, bits, exponent, claim, throws, told, p)", "closed_walks(table, bits, p)",
+              "closed_throws(bits)", "closed_share(bits)", "closed_answers(table, bits, throws, p)",
+              "judge_closed(table, bits, number, throws, told, p)", "blame_closed(table, bits, number, throws, told, p)"),
+    "largetext": ("parse_large(text)",),
+    "largenodes": ("nodes_of(program)", "uses(nodes, last)"),
+    "largevalues": ("tables_of(plan, inputs)", "result_of(plan, inputs)"),
+    "largeroad": ("large_counts(plan)", "judge_large(plan, inputs, claimed, throws, answers)",
+                  "large_answers(plan, inputs, throws)", "blame_large(plan, inputs, claimed, throws, answers)"),
+    # Files that the interface does not list.
+    "tapes": (), "largestages": (),
 }
 
 CLASSES = {
@@ -87,12 +104,16 @@ CLASSES = {
                               "blamed(self, rows, claims, dice, told)", "throw_count(self, rows)"),
     ("regular", "RegularAnswerer"): ("__init__(self, circuit, rows)", "outputs(self)", "begin(self, layer, point)",
                                      "poly(self)", "throw(self, number)", "line(self)"),
+    ("matrices", "ProductTurn"): ("__init__(self, p, sizes, point, claim)", "accept_pair(self, values)"),
+    ("matrices", "ProductAnswerer"): ("__init__(self, p, left, right, sizes, point)", "poly(self)", "throw(self, number)",
+                                      "pair(self)"),
 }
 
 # Classes that the interface does not list.
 HELPERS = (("asking", "Questions"), ("talks", "Pieces"), ("parsing", "Reader"), ("sizes", "Function"), ("sizes", "Checker"),
            ("meaning", "Numbers"), ("meaning", "Scope"), ("graphs", "Builder"), ("console", "Settings"),
-           ("regular", "RegularTurn"), ("regular", "RegularQuestions"))
+           ("regular", "RegularTurn"), ("regular", "RegularQuestions"), ("tapes", "Tape"), ("walks", "Walk"),
+           ("largenodes", "Maker"), ("largeroad", "LargeAsker"), ("largeroad", "LargeAnswerer"))
 
 
 def body_of(module):
@@ -134,6 +155,10 @@ class InterfaceTest(unittest.TestCase):
             for part in body_of(module):
                 if isinstance(part, ast.ClassDef) and (module, part.name) not in CLASSES:
                     self.assertIn((module, part.name), HELPERS)
+
+    def test_every_file_is_listed(self):
+        files = {name[:-3] for name in os.listdir(FOLDER) if name.endswith(".py") and name != "__init__.py"}
+        self.assertEqual(files, set(FUNCTIONS))
 
     def test_they_are_imported_by_their_modules(self):
         for module in FUNCTIONS:
