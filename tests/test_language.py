@@ -120,7 +120,51 @@ class ModulesTest(unittest.TestCase):
             self.assertFalse(set(bound) & NAMES, name)
 
 
+    def test_imports_are_used(self):
+        for name, tree in trees():
+            used = {node.id for node in ast.walk(tree) if isinstance(node, ast.Name)}
+            for part in imports(tree):
+                for alias in part.names:
+                    self.assertIn(alias.name, used, name)
+
+
+class CallsTest(unittest.TestCase):
+    def test_calls_pass_what_is_taken(self):
+        """Calls of own functions and classes by their names, by position only."""
+        taken = {}
+        for name, tree in trees():
+            for part in tree.body:
+                starts = [part] if isinstance(part, ast.FunctionDef) else []
+                if isinstance(part, ast.ClassDef):
+                    starts = [inner for inner in part.body if isinstance(inner, ast.FunctionDef) and inner.name == "__init__"]
+                for function in starts:
+                    self.assertEqual(function.args.defaults, [], name)
+                    many = len(function.args.args) - (1 if isinstance(part, ast.ClassDef) else 0)
+                    taken.setdefault(part.name, set()).add(many)
+        for name, tree in trees():
+            for node in ast.walk(tree):
+                if isinstance(node, ast.Call) and isinstance(node.func, ast.Name) and node.func.id in taken:
+                    self.assertEqual(node.keywords, [], name)
+                    self.assertIn(len(node.args), taken[node.func.id], (name, node.func.id))
+
+    def test_super_calls_a_method(self):
+        for name, tree in trees():
+            called = {id(node.value) for node in ast.walk(tree) if isinstance(node, ast.Attribute)}
+            for node in ast.walk(tree):
+                if isinstance(node, ast.Call) and getattr(node.func, "id", "") == "super":
+                    self.assertEqual(node.args, [], name)
+                    self.assertIn(id(node), called, name)
+
+
 class NamesTest(unittest.TestCase):
+    def test_names_that_begin_in_a_barred_way(self):
+        barred = re.compile(r"_wall|_pe_|_dcw_|_enum_|_cm_|_twin_re_|_lay_|_law_|_stub_|_sre|_WallAttr|__")
+        for name, tree in trees():
+            for node in ast.walk(tree):
+                for word in (getattr(node, "id", ""), getattr(node, "attr", ""), getattr(node, "arg", ""), getattr(node, "name", "")):
+                    if isinstance(word, str) and word != "__init__":
+                        self.assertIsNone(barred.match(word), (name, word))
+
     def test_local_names(self):
         for name, tree in trees():
             taken = {alias.name for part in imports(tree) for alias in part.names}

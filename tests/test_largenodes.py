@@ -121,7 +121,7 @@ class FaultsTest(unittest.TestCase):
 
     def test_kinds(self):
         for e in ("a + u", "u - a", "u + w", "m + n", "m - q + n", "u * w", "u * m", "m * n", "dot(a, u)", "dot(u, w)", "dot(m, q)", "dot(u, a)", "sum(a)", "sum(3)",
-                  "product(a)", "product(m)", "mm(m, q)", "mm(u, m)", "mm(m, u)", "mm(a, m)", "mv(m, w)", "mv(u, m)", "mv(m, m)", "mv(m, a)", "outer(a, u)",
+                  "product(a)", "product(m)", "mm(m, q)", "mm(u, m)", "mm(m, u)", "mm(a, m)", "mv(m, w)", "mv(u, m)", "mv(m, m)", "mv(m, a)", "mv(u, v)", "mv(w, w)", "mv(a, u)", "outer(a, u)",
                   "outer(u, a)", "outer(m, u)", "outer(u, m)", "transpose(u)", "transpose(a)", "transform(m)", "transform(a)"):
             self.wrong("kind", 9, INPUTS + "claim " + e)
             self.wrong("kind", 9, INPUTS + f"let x = {e}\nclaim a")

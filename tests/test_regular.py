@@ -6,13 +6,13 @@ from copy import deepcopy
 from itertools import product
 
 from layerask.answering import Answerer, answers
-from layerask.asking import judge
+from layerask.asking import judge, play
 from layerask.blame import blame
 from layerask.bluffing import Bluffer, Guesser
 from layerask.circuits import checked, run
 from layerask.counts import most_believed, plan, share, throws as throws_of, told_work
 from layerask.errors import CircuitError, FieldError, SizeError, TalkError
-from layerask.regular import (RegularAnswerer, blame_regular, checked_regular, explicit, inner_circuit, judge_regular,
+from layerask.regular import (RegularAnswerer, RegularQuestions, blame_regular, checked_regular, explicit, inner_circuit, judge_regular,
                               product_circuit, regular, regular_answers, regular_weights, regular_work, run_regular,
                               sum_circuit, transform_circuit)
 from plain import GREATEST, Numbers, kept, plain_answers, plain_weights, raised, sample_rows, throw_count, true_outputs, unshared
@@ -145,7 +145,8 @@ class CheckedTest(unittest.TestCase):
                      ("same", ("mul", 2, 3)), ("same", ("mul", 97)), ("same", ("mul", -1)), ("same", ("mul", True)), ("same", ("lin", 1)), ("same", ("lin", 1, 97)),
                      ("same", ("lin", 1, 2, 3)), ("same", ("div", 1)), ("cross", MUL, MUL), ("cross", 0, MUL), ("cross", 2, MUL, MUL), ("cross", -1, MUL, MUL),
                      ("cross", True, MUL, MUL), ("cross", None, MUL, MUL), ("cross", 0, MUL, LIN), ("cross", 0, LIN, MUL), ("cross", 0, MUL, None),
-                     ("cross", 0, ("mul", 97), MUL), ("cross", 0, MUL, ("lin", 1)), ("cross", 0, MUL, MUL, MUL), ({}, MUL)):
+                     ("cross", 0, ("mul", 97), MUL), ("cross", 0, MUL, ("lin", 1)), ("cross", 0, MUL, MUL, MUL), ({}, MUL),
+                     ("other", 0, MUL, MUL), ("same", 0, MUL, MUL)):
             self.wrong(CircuitError, "part", "rule", ("regular", 97, [2, 2], [rule]))
             self.wrong(CircuitError, "part", "rule", ("regular", 97, [2, 2, 2], [good, rule]))
         # No bit of a single column.
@@ -314,6 +315,15 @@ class CountsTest(unittest.TestCase):
                 widths = circuit[2]
                 less = sum(2 ** bits - bits - 1 for bits in widths[:-1])
                 self.assertEqual(kept(self, regular_work, circuit, dims), told_work(whole, dims) - less)
+
+    def test_the_work_of_an_asker(self):
+        for circuit, rows, dims, numbers in samples((97,)):
+            throws = numbers.many(throws_of(circuit, dims), 97)
+            told = regular_answers(circuit, rows, throws)
+            inputs = [row[at] for at in range(len(rows[0])) for row in rows]
+            asker = RegularQuestions(circuit, dims, inputs, RegularAnswerer(circuit, rows).outputs())
+            self.assertEqual(play(asker, throws, told), ("believed",))
+            self.assertEqual(asker.work, regular_work(circuit, dims))
 
     def test_work_by_the_bits(self):
         """One bit more in all layers adds little work but for the tables."""

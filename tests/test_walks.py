@@ -410,11 +410,14 @@ class BlameTest(unittest.TestCase):
         self.assertLessEqual({("mix", "last"), ("join", "last", 0), ("join", "last", 1), ("round", 1, 0)}, set(kinds))
 
     def test_a_true_claim_has_no_blame(self):
-        table, right, _ = self.case(3, 1, 2, False, 4)
-        for throws in product(range(3), repeat=4):
-            honest = walk_answers(table, 1, 2, right, list(throws), 3)
-            told = bluffed(lambda sent: judge_walk(table, 1, 2, right, list(throws), shaped(sent, honest), 3), flat(honest), 3, 1)
-            self.assertIsNone(blame_walk(table, 1, 2, right, list(throws), shaped(told, honest), 3))
+        table = [1, 2, 2, 0]
+        squared = plain_power(table, 1, 2, 3)
+        for i, j in product(range(2), repeat=2):
+            right = ("entry", i, j, squared[i + 2 * j])
+            for throws in product(range(3), repeat=4):
+                honest = walk_answers(table, 1, 2, right, list(throws), 3)
+                told = bluffed(lambda sent: judge_walk(table, 1, 2, right, list(throws), shaped(sent, honest), 3), flat(honest), 3, 1)
+                self.assertIsNone(blame_walk(table, 1, 2, right, list(throws), shaped(told, honest), 3))
 
 
 def plain_closed(table, bits, p):
@@ -523,7 +526,7 @@ class ClosedTest(unittest.TestCase):
             if isinstance(right, int):
                 wrongs = [(right + 1) % p, -1, p]
             else:
-                wrongs = [[(right[0] + 1) % p] + right[1:], right[:-1], right + [0], [p] + right[1:], []]
+                wrongs = [[(right[0] + 1) % p] + right[1:], right[:-1], right + [0], right + [1], [p] + right[1:], [right[0] + p] + right[1:], []]
             for wrong in wrongs:
                 changed = flat_closed(told)[:at] + [wrong] + flat_closed(told)[at + 1:]
                 self.assertEqual(judge_closed(table, bits, number, throws, shaped_closed(changed, bits), p), ("refused",) + place)
